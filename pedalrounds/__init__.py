@@ -1,0 +1,1 @@
+"""Pedalrounds: rounds of sound that are laid over one another by presses."""

@@ -1,0 +1,27 @@
+"""Checks of the arguments that several modules take."""
+
+from pedalrounds.errors import OutOfPlace
+
+
+def is_whole(thing):
+    """Whether the thing is an integer; True and False are none."""
+    return isinstance(thing, int) and not isinstance(thing, bool)
+
+
+def are_samples(thing, many):
+    """Whether the thing is a tuple of so many integers."""
+    if not isinstance(thing, tuple) or len(thing) != many:
+        return False
+    return all([is_whole(sample) for sample in thing])
+
+
+def need_tick(thing):
+    """Refuse what is no tick, and no number of ticks."""
+    if not is_whole(thing) or not 0 <= thing <= 10 ** 30:
+        raise OutOfPlace("a tick is an integer from 0 to 10 ** 30")
+
+
+def need_many(thing):
+    """Refuse what does not tell how many are asked for."""
+    if not is_whole(thing) or not 0 <= thing <= 1000:
+        raise OutOfPlace("many is an integer from 0 to 1,000")

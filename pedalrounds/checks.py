@@ -15,6 +15,18 @@ def are_samples(thing, many):
     return all([is_whole(sample) for sample in thing])
 
 
+def are_at_most(thing, most):
+    """Whether the thing is a tuple of at most so many integers."""
+    return isinstance(thing, tuple) and len(thing) <= most and are_samples(thing, len(thing))
+
+
+def begins(paper, word, many):
+    """Whether the paper is a tuple of so many things, the first one this word."""
+    if not isinstance(paper, tuple) or len(paper) != many:
+        return False
+    return isinstance(paper[0], str) and paper[0] == word
+
+
 def need_tick(thing):
     """Refuse what is no tick, and no number of ticks."""
     if not is_whole(thing) or not 0 <= thing <= 10 ** 30:

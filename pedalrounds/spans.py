@@ -19,9 +19,7 @@ def need_lengths(thing):
 
 def span(lengths):
     """The SPAN of the LENGTHS."""
-    common = 1
-    for length in need_lengths(lengths):
-        common = common * length
+    common = common_multiple(need_lengths(lengths))
     # Over one denominator, fractions are alike exactly if their numerators are.
     return len({number * (common // under) for under in lengths for number in range(under)})
 
@@ -49,9 +47,28 @@ def carried(lengths, row, many):
     samples = list(row)
     for tick in range(many):
         # The last one of the WEIGHTS is 1, so the next sample makes up for all others.
-        others = sum([weight * sample for weight, sample in zip(known, samples[tick:])])
-        samples.append(-others)
+        samples.append(-weighted(known, samples[tick:]))
     return tuple(samples[len(row):])
+
+
+def weighted(factors, samples):
+    """The sum of the samples, each times the factor of its index."""
+    return sum([factor * sample for factor, sample in zip(factors, samples)])
+
+
+def common_divisor(one, other):
+    """The greatest common divisor of two integers from 1 on."""
+    while other != 0:
+        one, other = other, one % other
+    return one
+
+
+def common_multiple(lengths):
+    """The least common multiple of the lengths, 1 of none."""
+    common = 1
+    for length in lengths:
+        common = common * (length // common_divisor(common, length))
+    return common
 
 
 def ring_powers(lengths):

@@ -17,7 +17,17 @@ SPANS = {
     "need_lengths": ("thing",), "span": ("lengths",), "weights": ("lengths",),
     "carried": ("lengths", "row", "many"),
 }
-MODULES = {"pedalrounds.errors": ERRORS, "pedalrounds.loops": LOOPS, "pedalrounds.spans": SPANS}
+FITS = {"fit": ("lengths", "row"), "check_fit": ("lengths", "row", "paper"), "deceiver": ("lengths",)}
+ALIKE = {"first_apart": ("one", "other"), "period": ("loops",), "silent": ("loops",)}
+MEETINGS = {"meeting": ("lengths", "places"), "check_meeting": ("lengths", "places", "paper")}
+PEDALS = {
+    "need_pedal": ("thing",), "empty_pedal": ("tracks",), "pressed": ("pedal", "press"),
+    "is_idle": ("pedal", "press"), "ticked": ("pedal", "sample"),
+}
+MODULES = {
+    "pedalrounds.errors": ERRORS, "pedalrounds.loops": LOOPS, "pedalrounds.spans": SPANS, "pedalrounds.fits": FITS,
+    "pedalrounds.alike": ALIKE, "pedalrounds.meetings": MEETINGS, "pedalrounds.pedals": PEDALS,
+}
 
 
 class Interface(unittest.TestCase):

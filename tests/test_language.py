@@ -32,6 +32,8 @@ def names_bound(node):
         return [node.name]
     if isinstance(node, ast.arg):
         return [node.arg]
+    if isinstance(node, ast.Assign):
+        return [name for target in node.targets for name in names_bound(target)]
     if isinstance(node, ast.Name) and isinstance(node.ctx, ast.Store):
         return [node.id]
     if isinstance(node, ast.Attribute):

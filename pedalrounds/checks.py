@@ -27,9 +27,14 @@ def begins(paper, word, many):
     return isinstance(paper[0], str) and paper[0] == word
 
 
+def is_tick(thing):
+    """Whether the thing is a tick, or a number of ticks."""
+    return is_whole(thing) and 0 <= thing <= 10 ** 30
+
+
 def need_tick(thing):
     """Refuse what is no tick, and no number of ticks."""
-    if not is_whole(thing) or not 0 <= thing <= 10 ** 30:
+    if not is_tick(thing):
         raise OutOfPlace("a tick is an integer from 0 to 10 ** 30")
 
 

@@ -56,7 +56,7 @@ def ticked(pedal, sample):
     need_pedal(pedal)
     if not is_whole(sample):
         raise OutOfPlace("a SAMPLE is an integer")
-    return heard_of(pedal), tuple([gone_on(track, sample) for track in pedal])
+    return heard_of(pedal), behind_tick(pedal, sample)
 
 
 def need_tracks(thing):
@@ -226,6 +226,11 @@ DEEDS = {
 def heard_of(pedal):
     """What is heard of the PEDAL in a TICK."""
     return sum([track[SIGN] * sounded(track) for track in pedal if not track[MUTED]])
+
+
+def behind_tick(pedal, sample):
+    """The PEDAL behind a TICK that takes in the sample, both already checked."""
+    return tuple([gone_on(track, sample) for track in pedal])
 
 
 def sounded(track):

@@ -57,7 +57,7 @@ def weighted(factors, samples):
 
 
 def common_divisor(one, other):
-    """The greatest common divisor of two integers from 1 on."""
+    """The greatest common divisor of two integers from 0 on."""
     while other != 0:
         one, other = other, one % other
     return one

@@ -24,10 +24,24 @@ PEDALS = {
     "need_pedal": ("thing",), "empty_pedal": ("tracks",), "pressed": ("pedal", "press"),
     "is_idle": ("pedal", "press"), "ticked": ("pedal", "sample"),
 }
+PLAYS = {
+    "need_row": ("tracks", "thing"), "played": ("row", "sound"), "later_at": ("pedal", "tick"), "rounds": ("pedal",),
+    "first_parting": ("one", "other"),
+}
+SHARES = {"shares": ("tracks", "row", "tick"), "parting": ("tracks", "one", "other")}
+TOLD = {
+    "told_back": ("tracks", "row", "index"), "check_told": ("tracks", "row", "index", "paper"),
+    "all_told": ("tracks", "row"),
+}
+TWINS = {"plain": ("pedal",), "are_twins": ("one", "other")}
 MODULES = {
     "pedalrounds.errors": ERRORS, "pedalrounds.loops": LOOPS, "pedalrounds.spans": SPANS, "pedalrounds.fits": FITS,
     "pedalrounds.alike": ALIKE, "pedalrounds.meetings": MEETINGS, "pedalrounds.pedals": PEDALS,
+    "pedalrounds.plays": PLAYS, "pedalrounds.shares": SHARES, "pedalrounds.told": TOLD, "pedalrounds.twins": TWINS,
 }
+EMPTY = ("empty", (), (), 0, 1, 2, 1, False)
+# The arguments behind a star, with what stands for those that are not passed.
+BEHIND_A_STAR = {"played": {"pedal": (EMPTY,)}}
 
 
 class Interface(unittest.TestCase):
@@ -43,10 +57,12 @@ class Interface(unittest.TestCase):
             module = importlib.import_module(path)
             for name, arguments in names.items():
                 told = inspect.signature(getattr(module, name)).parameters.values()
-                self.assertEqual(tuple(one.name for one in told), arguments, name)
-                for one in told:
-                    self.assertEqual(one.kind, inspect.Parameter.POSITIONAL_OR_KEYWORD, name)
-                    self.assertIs(one.default, inspect.Parameter.empty, name)
+                first = [one for one in told if one.kind == inspect.Parameter.POSITIONAL_OR_KEYWORD]
+                self.assertEqual(tuple(one.name for one in first), arguments, name)
+                self.assertEqual({one.default for one in first} - {inspect.Parameter.empty}, set(), name)
+                behind = [one for one in told if one.kind == inspect.Parameter.KEYWORD_ONLY]
+                self.assertEqual({one.name: one.default for one in behind}, BEHIND_A_STAR.get(name, {}), name)
+                self.assertEqual(len(told), len(first) + len(behind), name)
 
 
 if __name__ == "__main__":

@@ -7,6 +7,7 @@ import unittest.mock
 
 from pedalrounds.errors import BadPedal, OutOfPlace
 from pedalrounds.pedals import EMPTY, empty_pedal, is_idle, need_pedal, pressed, ticked
+from models import WORDS, Model, presses_of
 from wrongs import GREAT, NO_INTEGERS, NO_TUPLES, Refusals
 
 FRESH = ("record", ((),), (), 0, 1, 2, 1, False)
@@ -18,7 +19,6 @@ DUB = ("dub", ((5, 7), (0, 2), (1, 1)), (), 2, -1, 1, -1, True)
 STOP = ("stop", ((5, 7), (1, 2)), ((3, 4), (8, 9)), 0, -1, 4, -1, True)
 REST = (3, -1, 4, -1, True)
 STILL = (0, -1, 4, -1, True)
-WORDS = ("tap", "stop", "clear", "undo", "redo", "join", "turn", "flip", "mute")
 TRACKS = (EMPTY, FRESH, RECORD, PLAY, SINGLE, FULL, DUB, STOP)
 
 # For each PRESS and TRACK what the TRACK is behind it; with what is not told here, the PRESS is IDLE.
@@ -111,80 +111,6 @@ NO_TRACKS = NO_TUPLES + (
 
 def spoiled_tracks():
     return [track[:part] + (thing,) + track[part + 1:] for track, part, things in SPOILED for thing in things]
-
-
-def presses_of(tracks):
-    """Each PRESS for so many TRACKs."""
-    words = [(word, number) for word in WORDS for number in range(tracks)]
-    return words + [("pace", number, pace) for number in range(tracks) for pace in (1, 2, 4)]
-
-
-class Model:
-    """A TRACK once more, changed in place, part by part as the document tells it."""
-
-    def __init__(self):
-        self.clear()
-
-    def clear(self):
-        self.mode, self.layers, self.undone = "empty", [], []
-        self.point, self.way, self.pace, self.sign, self.muted = 0, 1, 2, 1, False
-
-    def track(self):
-        layers = tuple(tuple(layer) for layer in self.layers)
-        undone = tuple(tuple(layer) for layer in self.undone)
-        return (self.mode, layers, undone, self.point, self.way, self.pace, self.sign, self.muted)
-
-    def tap(self):
-        if self.mode == "empty":
-            self.mode, self.layers = "record", [[]]
-        elif self.mode == "record" and not self.layers[0]:
-            self.clear()
-        elif self.mode in ("record", "dub", "stop"):
-            self.mode = "play"
-        elif len(self.layers) < 4:
-            self.mode, self.undone = "dub", []
-            self.layers.append([0 for cell in self.layers[0]])
-
-    def stop(self):
-        if self.mode == "record" and not self.layers[0]:
-            self.clear()
-        elif self.mode != "empty":
-            self.mode, self.point = "stop", 0
-
-    def press(self, word, pace=None):
-        if word in ("tap", "stop", "clear"):
-            getattr(self, word)()
-        elif self.mode in ("play", "dub", "stop"):
-            if word == "undo" and len(self.layers) >= 2:
-                self.undone.append(self.layers.pop())
-                self.mode = "play" if self.mode == "dub" else self.mode
-            if word == "redo" and self.undone:
-                self.layers.append(self.undone.pop())
-            if word == "join" and len(self.layers) >= 2 and self.mode != "dub":
-                self.layers, self.undone = [[sum(cells) for cells in zip(*self.layers)]], []
-            self.way *= -1 if word == "turn" else 1
-            self.sign *= -1 if word == "flip" else 1
-            self.muted = self.muted != (word == "mute")
-            self.pace = pace or self.pace
-
-    def tick(self, sample):
-        heard = 0
-        if self.mode == "record":
-            self.layers[0].append(sample)
-            if len(self.layers[0]) == 64:
-                self.mode = "play"
-        elif self.mode in ("play", "dub"):
-            cell = self.point // 2
-            if not self.muted:
-                heard = self.sign * sum(layer[cell] for layer in self.layers)
-            if self.mode == "dub":
-                self.layers[-1][cell] += sample
-            self.point += self.way * self.pace
-            while self.point < 0:
-                self.point += 2 * len(self.layers[0])
-            while self.point >= 2 * len(self.layers[0]):
-                self.point -= 2 * len(self.layers[0])
-        return heard
 
 
 def take(pedal, samples):

@@ -38,6 +38,12 @@ def need_tick(thing):
         raise OutOfPlace("a tick is an integer from 0 to 10 ** 30")
 
 
+def need_sample(thing):
+    """Refuse what is no SAMPLE."""
+    if not is_whole(thing):
+        raise OutOfPlace("a SAMPLE is an integer")
+
+
 def need_many(thing):
     """Refuse what does not tell how many are asked for."""
     if not is_whole(thing) or not 0 <= thing <= 1000:

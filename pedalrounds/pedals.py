@@ -1,6 +1,6 @@
 """PEDALs: what PRESSes and TICKs make of them."""
 
-from pedalrounds.checks import are_at_most, begins, is_whole
+from pedalrounds.checks import are_at_most, begins, is_whole, need_sample
 from pedalrounds.errors import BadPedal, OutOfPlace
 
 EMPTY = ("empty", (), (), 0, 1, 2, 1, False)
@@ -54,8 +54,7 @@ def is_idle(pedal, press):
 def ticked(pedal, sample):
     """What is heard in a TICK that takes in the sample, and the PEDAL behind it."""
     need_pedal(pedal)
-    if not is_whole(sample):
-        raise OutOfPlace("a SAMPLE is an integer")
+    need_sample(sample)
     return heard_of(pedal), behind_tick(pedal, sample)
 
 
@@ -221,6 +220,12 @@ DEEDS = {
     "tap": tap, "stop": stop, "clear": clear, "undo": undo, "redo": redo, "join": join,
     "turn": turn, "flip": flip, "mute": mute,
 }
+
+
+def every_press(tracks):
+    """Each PRESS for so many TRACKs."""
+    words = [(word, number) for word in DEEDS for number in range(tracks)]
+    return words + [("pace", number, pace) for number in range(tracks) for pace in PACES]
 
 
 def heard_of(pedal):

@@ -90,8 +90,9 @@ def course_behind(pedal, row, sound):
 
 def once_round(track):
     """What a TRACK that plays, or dubs 0s, adds to the sum until its POINT comes back."""
+    layers = track[LAYERS]
     point, way, pace, sign = track[POINT:MUTED]
-    cells = [sign * sum(column) for column in zip(*track[LAYERS])]
+    cells = [sign * sum(column) for column in zip(*layers)]
     ring = 2 * len(cells)
     ticks = ring // common_divisor(ring, pace)
     return tuple([cells[(point + way * pace * tick) % ring // 2] for tick in range(ticks)])

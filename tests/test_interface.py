@@ -34,17 +34,42 @@ TOLD = {
     "all_told": ("tracks", "row"),
 }
 TWINS = {"plain": ("pedal",), "are_twins": ("one", "other")}
+WAYS = {"hushed": ("tracks", "row"), "way_to": ("track", "goal")}
+TEXTS = {"row_text": ("row",), "read_row": ("text",)}
+LIVE = {"Live": ("tracks",)}
+DESK = {"Desk": ("tracks",)}
 MODULES = {
     "pedalrounds.errors": ERRORS, "pedalrounds.loops": LOOPS, "pedalrounds.spans": SPANS, "pedalrounds.fits": FITS,
     "pedalrounds.alike": ALIKE, "pedalrounds.meetings": MEETINGS, "pedalrounds.pedals": PEDALS,
     "pedalrounds.plays": PLAYS, "pedalrounds.shares": SHARES, "pedalrounds.told": TOLD, "pedalrounds.twins": TWINS,
+    "pedalrounds.ways": WAYS, "pedalrounds.texts": TEXTS, "pedalrounds.live": LIVE, "pedalrounds.desk": DESK,
 }
 EMPTY = ("empty", (), (), 0, 1, 2, 1, False)
 # The arguments behind a star, with what stands for those that are not passed.
-BEHIND_A_STAR = {"played": {"pedal": (EMPTY,)}}
+BEHIND_A_STAR = {"played": {"pedal": (EMPTY,)}, "Live": {"pedal": None}, "press": {"pace": None}, "back": {"many": 1}}
+# What need not be passed otherwise, and what then stands for it.
+NEED_NOT = {"Live": {"tracks": 1}, "Desk": {"tracks": 1}}
+METHODS = {
+    "Live": {
+        "__call__": ("sample",), "press": ("word", "track"), "back": (), "__len__": (), "copy": (),
+        "__eq__": ("other",), "then": ("other",),
+    },
+    "Desk": {"say": ("line",)},
+}
+PROPERTIES = {"Live": ("pedal", "row", "sound", "heard"), "Desk": ("live",)}
 
 
 class Interface(unittest.TestCase):
+    def check_arguments(self, name, called, arguments):
+        told = inspect.signature(called).parameters.values()
+        first = [one for one in told if one.kind == inspect.Parameter.POSITIONAL_OR_KEYWORD]
+        self.assertEqual(tuple(one.name for one in first), arguments, name)
+        need_not = {one.name: one.default for one in first if one.default is not inspect.Parameter.empty}
+        self.assertEqual(need_not, NEED_NOT.get(name, {}), name)
+        behind = [one for one in told if one.kind == inspect.Parameter.KEYWORD_ONLY]
+        self.assertEqual({one.name: one.default for one in behind}, BEHIND_A_STAR.get(name, {}), name)
+        self.assertEqual(len(told), len(first) + len(behind), name)
+
     def test_each_name_is_defined_in_its_module(self):
         for path, names in MODULES.items():
             module = importlib.import_module(path)
@@ -56,13 +81,20 @@ class Interface(unittest.TestCase):
         for path, names in MODULES.items():
             module = importlib.import_module(path)
             for name, arguments in names.items():
-                told = inspect.signature(getattr(module, name)).parameters.values()
-                first = [one for one in told if one.kind == inspect.Parameter.POSITIONAL_OR_KEYWORD]
-                self.assertEqual(tuple(one.name for one in first), arguments, name)
-                self.assertEqual({one.default for one in first} - {inspect.Parameter.empty}, set(), name)
-                behind = [one for one in told if one.kind == inspect.Parameter.KEYWORD_ONLY]
-                self.assertEqual({one.name: one.default for one in behind}, BEHIND_A_STAR.get(name, {}), name)
-                self.assertEqual(len(told), len(first) + len(behind), name)
+                self.check_arguments(name, getattr(module, name), arguments)
+
+    def test_the_methods_are_defined_in_the_classes_themselves(self):
+        for path, names in MODULES.items():
+            for name in names:
+                if name in METHODS:
+                    own = vars(getattr(importlib.import_module(path), name))
+                    for method, arguments in METHODS[name].items():
+                        self.check_arguments(method, own[method], ("self",) + arguments)
+                    for one in PROPERTIES[name]:
+                        self.assertIsInstance(own[one], property)
+
+    def test_empty(self):
+        self.assertEqual(importlib.import_module("pedalrounds.pedals").EMPTY, EMPTY)
 
 
 if __name__ == "__main__":

@@ -15,6 +15,7 @@ BUILTINS = (
     "len range enumerate zip min max sum abs sorted reversed int str bool list tuple dict set isinstance ord repr"
     " any all divmod ValueError LookupError OverflowError"
 ).split()
+ON_THE_SPOT = ("zip", "enumerate", "reversed", "range", "items", "keys", "values")
 AT_THE_TOP = (ast.ImportFrom, ast.FunctionDef, ast.ClassDef, ast.Assign)
 BARRED_NODES = (ast.Import, ast.Global, ast.AsyncFunctionDef, ast.Div)
 
@@ -101,6 +102,47 @@ class Rows(unittest.TestCase):
                 for name in names_bound(node):
                     self.assertNotIn(name, BUILTINS, path)
                     self.assertRegex(name, r"\A([A-Za-z][A-Za-z0-9_]*|__[a-z]+__)\Z", path)
+
+
+class Classes(unittest.TestCase):
+    """What holds in the whole package because of its classes, one of which compares."""
+
+    def test_no_name_is_a_method_here_and_an_attribute_there(self):
+        methods, properties, attributes = set(), set(), set()
+        for path, tree in trees():
+            for node in ast.walk(tree):
+                if isinstance(node, ast.ClassDef):
+                    for part in node.body:
+                        if isinstance(part, ast.FunctionDef):
+                            (properties if part.decorator_list else methods).add(part.name)
+                if isinstance(node, ast.Attribute) and isinstance(node.ctx, ast.Store):
+                    attributes.add(node.attr)
+        self.assertEqual(methods & properties, set())
+        self.assertEqual(attributes & (methods | properties), set())
+        own = {name for name in methods | properties | attributes if not name.startswith("__")}
+        self.assertEqual(own & set(dir(str) + dir(list) + dir(dict) + dir(int)), {"copy"})
+
+    def test_lists_in_the_place_of_generators(self):
+        for path, tree in trees():
+            for node in ast.walk(tree):
+                self.assertNotIsInstance(node, (ast.GeneratorExp, ast.Yield, ast.YieldFrom), path)
+                if isinstance(node, ast.Attribute):
+                    self.assertNotEqual(node.attr, "sort", path)
+
+    def test_rows_that_are_iterated_on_the_spot(self):
+        for path, tree in trees():
+            for node in ast.walk(tree):
+                if isinstance(node, (ast.Assign, ast.Return)) and isinstance(node.value, ast.Call):
+                    name = node.value.func
+                    self.assertFalse(isinstance(name, ast.Name) and name.id in ON_THE_SPOT, (path, node.lineno))
+                    self.assertFalse(isinstance(name, ast.Attribute) and name.attr in ON_THE_SPOT, (path, node.lineno))
+
+    def test_properties_have_no_setters(self):
+        for path, tree in trees():
+            for node in ast.walk(tree):
+                if isinstance(node, ast.FunctionDef):
+                    for one in node.decorator_list:
+                        self.assertEqual(ast.unparse(one), "property", path)
 
 
 if __name__ == "__main__":

@@ -9,7 +9,7 @@ import unittest
 from pedalrounds.errors import BadPedal, BadRow, OutOfPlace
 from pedalrounds.pedals import EMPTY, empty_pedal, need_pedal, pressed, ticked
 from pedalrounds.plays import first_parting, later_at, need_row, played, rounds
-from models import chance_pedal, chance_row, chance_sound, chance_track, models_of, pedal_of, play, presses_of, wait
+from models import chance_pedal, chance_row, chance_sound, models_of, pedal_of, play, presses_of, wait
 from wrongs import (
     BEYOND_TICKS, GREAT, NO_INTEGERS, NO_NUMBERS_OF_TRACKS, NO_PEDALS, NO_PRESSES, NO_ROWS, NO_TUPLES, TAP, Refusals,
 )
